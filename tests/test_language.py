@@ -1,0 +1,113 @@
+"""The plainest of the rules that the files of the package keep to: sizes, signs, names, imports."""
+
+import ast
+import builtins
+import pathlib
+import re
+import unittest
+import warnings
+
+PACKAGE = pathlib.Path(__file__).resolve().parent.parent / "toldwhat"
+LIBRARY = {
+    "heapq": {"heappush", "heappop", "heapify", "heapreplace", "heappushpop"},
+    "math": {"gcd", "lcm", "isqrt", "comb", "perm", "factorial"},
+    "itertools": {
+        "product", "combinations", "permutations", "chain", "accumulate", "pairwise", "islice", "zip_longest",
+    },
+    "collections": {"defaultdict", "deque"},
+}
+CALLED = {
+    "len", "range", "enumerate", "zip", "min", "max", "sum", "abs", "sorted", "reversed", "int", "str", "bool", "list",
+    "tuple", "dict", "set", "isinstance", "ord", "repr", "any", "all", "divmod", "pow", "iter", "next", "map", "super",
+    "property", "ValueError", "KeyError", "StopIteration", "NotImplemented",
+}
+SLOTS = {"__init__", "__eq__", "__repr__", "__str__", "__len__", "__enter__", "__exit__", "__call__", "__iter__"}
+BARRED = {"register", "mro", "elements", "open", "input", "law", "version_info", "with_traceback", "add_note"}
+
+
+def bound_names(tree):
+    """All names that a file gives to something, but not those of methods and attributes."""
+    methods = {id(part) for node in ast.walk(tree) if isinstance(node, ast.ClassDef) for part in node.body}
+    for node in ast.walk(tree):
+        if isinstance(node, (ast.FunctionDef, ast.ClassDef)) and id(node) not in methods:
+            yield node.name
+        elif isinstance(node, ast.arg):
+            yield node.arg
+        elif isinstance(node, ast.Name) and isinstance(node.ctx, ast.Store):
+            yield node.id
+        elif isinstance(node, ast.ExceptHandler) and node.name:
+            yield node.name
+
+
+class TestLanguage(unittest.TestCase):
+    def setUp(self):
+        self.files = {}
+        for path in sorted(PACKAGE.rglob("*.py")):
+            text = path.read_text(encoding="utf-8")
+            self.files[path.name] = (text, ast.parse(text))
+        self.nodes = [(name, node) for name, (_, tree) in self.files.items() for node in ast.walk(tree)]
+
+    def test_nothing_but_files(self):
+        for path in PACKAGE.iterdir():
+            if path.name != "__pycache__":
+                self.assertRegex(path.name, r"^[a-z_][a-z0-9_]*\.py$")
+        self.assertIn("__init__.py", self.files)
+
+    def test_sizes(self):
+        for name, (text, _) in self.files.items():
+            lines = text.split("\n")
+            self.assertLessEqual(len(lines), 400, name)
+            for number, line in enumerate(lines, start=1):
+                self.assertLessEqual(len(line), 120, (name, number))
+        for name, node in self.nodes:
+            if isinstance(node, ast.FunctionDef):
+                self.assertLessEqual(node.end_lineno - node.lineno + 1, 40, (name, node.name))
+
+    def test_signs(self):
+        for name, (text, _) in self.files.items():
+            self.assertIsNone(re.search("[^ -~\n]", text), name)
+
+    def test_no_warnings(self):
+        for name, (text, _) in self.files.items():
+            with warnings.catch_warnings():
+                warnings.simplefilter("error")
+                compile(text, name, "exec")
+
+    def test_imports(self):
+        for name, node in self.nodes:
+            self.assertNotIsInstance(node, ast.Import, name)
+            if isinstance(node, ast.ImportFrom):
+                words = {alias.name for alias in node.names}
+                self.assertEqual(node.level, 0, name)
+                self.assertNotIn("*", words, name)
+                if not node.module.startswith("toldwhat."):
+                    self.assertLessEqual(words, LIBRARY.get(node.module, set()), name)
+
+    def test_names(self):
+        for name, (_, tree) in self.files.items():
+            for word in bound_names(tree):
+                self.assertNotIn(word, dir(builtins), name)
+                self.assertNotIn(word, BARRED, name)
+                self.assertRegex(word, r"^(_|_?[A-Za-z][A-Za-z0-9_]*)$", name)
+        for name, node in self.nodes:
+            if isinstance(node, ast.Name) and node.id in dir(builtins):
+                self.assertIn(node.id, CALLED, (name, node.lineno))
+            if isinstance(node, ast.FunctionDef) and node.name.startswith("__"):
+                self.assertIn(node.name, SLOTS, name)
+
+    def test_values(self):
+        for name, node in self.nodes:
+            if isinstance(node, ast.Compare):
+                for sign, right in zip(node.ops, node.comparators):
+                    if isinstance(sign, (ast.Is, ast.IsNot)):
+                        self.assertIsInstance(right, ast.Constant, (name, node.lineno))
+            if isinstance(node, ast.Constant):
+                self.assertNotIsInstance(node.value, (float, complex), (name, node.lineno))
+                if isinstance(node.value, str):
+                    self.assertNotIn("%", node.value, (name, node.lineno))
+            barred = (ast.Div, ast.Global, ast.AsyncFunctionDef, ast.Await, ast.MatMult, ast.Import)
+            self.assertNotIsInstance(node, barred, name)
+
+
+if __name__ == "__main__":
+    unittest.main()

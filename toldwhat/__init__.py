@@ -1,0 +1,1 @@
+"""Toldwhat: a keeper who is told what, never where."""
