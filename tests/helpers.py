@@ -4,6 +4,7 @@ import itertools
 import random
 
 from toldwhat.errors import KeeperError
+from toldwhat.questions import least
 
 EVEN = (2, ((1, 0), (0, 1)), (1, 0))
 SOME = (2, ((1, 0), (1, 1)), (0, 1))
@@ -12,6 +13,7 @@ ONLY = (1, ((0,),), (2,))
 THREE = (3, ((0, 1, 2), (1, 2, 0), (2, 0, 1)), (0, 1, 2))
 
 WORLDS = ("end", "ends", "stack", "deque", "in", "inout", "relabel", "reverse")
+PLACED = ("in", "inout")
 
 
 def nested(kind, depth):
@@ -41,6 +43,59 @@ NOT_LETTERS = (
     DEEP, DEEP_LIST,
 )
 
+NOT_QUESTIONS = NEVER + ((), (2,), EVEN[:2], EVEN + (0,), (EVEN,), DEEP)
+
+NOT_STEPS = NEVER + (
+    (), ((1, 0),) * 41, ((2, 0), (0, 1)), ((1, 0), (0, 2)), ((1, 0), (0, -1)), ((1, 0), (0, 10 ** 5000)),
+    ((1, 0), (0,)), ((1, 0), (0, 1, 0)), ((1, 0), ()), ((1, 0), [0, 1]), [(1, 0), (0, 1)], ((1, 0), "01"),
+    ((1, 0), (0, True)), ((False, 0), (0, 1)), ((1, 0), (0, None)), ((1, 0), (0, "1")), ((1, 0), (0, (1,))),
+    ((1, 0), None), ((1, 0), 0), ((1, 0), {0: 0, 1: 1}), (1, 0), DEEP, ((1, 0), DEEP), ((1, 0), (0, DEEP)),
+    ((1, 0), (0, DEEP_LIST)), {(1, 0): (0, 1)},
+)
+
+NOT_ANSWERS = NEVER + (
+    (), (1,), (1, 0, 0), (1, 4), (4, 1), (1, -1), (1, 10 ** 5000), (1, -10 ** 5000), (True, 0), (1, False), (1, None),
+    (1, "0"), "10", [1, 0], {1: 0, 0: 1}, ((1,), (0,)), (1, (0,)), DEEP, (DEEP, 1), (1, DEEP_LIST),
+)
+
+
+# All values that are no question, with the part that is named.
+WRONG_QUESTIONS = (
+    tuple((value, "question") for value in NOT_QUESTIONS)
+    + tuple(((value, EVEN[1], EVEN[2]), "letters") for value in NOT_LETTERS)
+    + tuple(((2, value, EVEN[2]), "steps") for value in NOT_STEPS)
+    + tuple(((2, EVEN[1], value), "answers") for value in NOT_ANSWERS)
+    + (((1, ((0,),) * 41, (0,) * 41), "steps"), ((3, EVEN[1], EVEN[2]), "steps"), ((2, (), ()), "steps"))
+)
+
+# A keeper of two messages, values that are none at all, and such of which a state is wrong, with its number.
+KEPT = (((1, 0), (0, 1)), (1, 0))
+
+NOT_KEEPERS = NEVER + (
+    (), (KEPT[0],), KEPT + (0,), (KEPT,), ((), ()), (KEPT[0], ()), (KEPT[0], (1,)), (KEPT[0], (1, 0, 0)), ((), (1, 0)),
+    ([(1, 0), (0, 1)], (1, 0)), (KEPT[0], [1, 0]), [KEPT[0], KEPT[1]], (KEPT[0], None), (None, KEPT[1]), (0, 0),
+    (KEPT[0], {0: 1, 1: 0}), ({0: (1, 0), 1: (0, 1)}, (1, 0)), (KEPT[0], "10"), ("10", (1, 0)), "ab", DEEP,
+    (DEEP, KEPT[1]), (KEPT[0], DEEP), (((0, 0),) * 3001, (0,) * 3001), (True, True), ((9, 9, 9), (9, 9)),
+)
+
+WRONG_KEEPERS = tuple((value, None) for value in NOT_KEEPERS) + (
+    (((None, None)), None), (((None,), (None,)), 0), ((((0, 0),), (4,)), 0), ((((0, 1),), (0,)), 0),
+    ((((1, 0), (0, 2)), (1, 0)), 1), ((((2, 0), (0, 1)), (1, 0)), 0), ((((1, 0), (0, -1)), (1, 0)), 1),
+    ((((1, 0), (0, 10 ** 5000)), (1, 0)), 1), ((((1, 0), (0,)), (1, 0)), 1), ((((1, 0), (0, 1, 0)), (1, 0)), 1),
+    ((((1, 0), ()), (1, 0)), 1), ((((1, 0), [0, 1]), (1, 0)), 1), ((([1, 0], (0, 1)), (1, 0)), 0),
+    ((((1, 0), "01"), (1, 0)), 1), ((((1, 0), (0, True)), (1, 0)), 1), ((((True, 0), (0, 1)), (1, 0)), 0),
+    ((((1, False), (0, 1)), (1, 0)), 0), ((((1, 0), (0, None)), (1, 0)), 1), ((((1, 0), (0, "1")), (1, 0)), 1),
+    ((((1, 0), None), (1, 0)), 1), ((((1, 0), 0), (1, 0)), 1), ((((1, 0), {0: 0, 1: 1}), (1, 0)), 1),
+    ((((1, 0), (0, (1,))), (1, 0)), 1), ((((1, 0), (0, DEEP)), (1, 0)), 1), ((((1, 0), DEEP_LIST), (1, 0)), 1),
+    (((DEEP, (0, 1)), (1, 0)), 0), ((DEEP, (0,)), 0), (((1, 0), (1, 0)), 0),
+    ((KEPT[0], (1, 4)), 1), ((KEPT[0], (4, 1)), 0), ((KEPT[0], (1, -1)), 1), ((KEPT[0], (True, 0)), 0),
+    ((KEPT[0], (1, False)), 1), ((KEPT[0], (1, None)), 1), ((KEPT[0], (1, "0")), 1), ((KEPT[0], ("1", 0)), 0),
+    ((KEPT[0], (1, [0])), 1), ((KEPT[0], ({}, 0)), 0), ((KEPT[0], (1, DEEP)), 1), ((KEPT[0], (10 ** 5000, 0)), 0),
+    # The first state of which one of both is wrong.
+    ((((1, 0), (0, 2)), (4, 0)), 0), ((((2, 0), (0, 1)), (1, 4)), 0), ((((1, 0), (0, 2)), (1, 4)), 1),
+    ((((1, 0), (0, 1), (0, 0), (0, 9)), (1, 0, 7, 0)), 2), ((((1, 0), (0, 1), (0, 9), (0, 0)), (1, 0, 0, 7)), 2),
+)
+
 
 def error_of(call, *arguments):
     """The name and the fields of the error that a call raises; None if it raises none."""
@@ -49,6 +104,31 @@ def error_of(call, *arguments):
     except KeeperError as error:
         return type(error).__name__, vars(error)
     return None
+
+
+def bad(name, **fields):
+    """An error as error_of tells it."""
+    return name, fields
+
+
+WRONG_WORLDS = tuple((value, bad("BadWorld")) for value in NOT_WORLDS)
+WRONG_LETTERS = tuple((value, bad("BadNumber")) for value in NOT_LETTERS)
+
+
+def check_arguments(test, call, good, wrong):
+    """Check the errors of wrong values for each argument, whatever stands in the arguments behind it.
+
+    Good arguments, and for each of them pairs of a wrong value and its error.
+    """
+    test.assertIsNone(error_of(call, *good))
+    for at, pairs in enumerate(wrong):
+        for number, (value, error) in enumerate(pairs):
+            arguments = [*good[:at], value, *good[at + 1:]]
+            test.assertEqual(error_of(call, *arguments), error, (call, at, number))
+            for behind in range(at + 1, len(wrong)):
+                later = wrong[behind]
+                arguments[behind] = later[number % len(later)][0] if later else arguments[behind]
+                test.assertEqual(error_of(call, *arguments), error, (call, at, number, behind))
 
 
 def short_texts(letters, longest):
@@ -87,6 +167,12 @@ def slow_least(question):
             firsts.append(text)
     steps = tuple(tuple(numbers[sign(text + (letter,))] for letter in range(letters)) for text in firsts)
     return letters, steps, tuple(slow_answer(question, text) for text in firsts)
+
+
+def small_of(question):
+    """The least question: by slow_least where that ends, else by the program, as other tests check it."""
+    many = sum(question[0] ** length for length in range(len(question[1]) + 1))
+    return slow_least(question) if many < 200 else least(question)
 
 
 def slow_map(small, text):
@@ -132,3 +218,139 @@ def ring(many, told=None):
     """The question of one letter that counts round so many states."""
     steps = tuple(((state + 1) % many,) for state in range(many))
     return 1, steps, told or (1,) + (0,) * (many - 1)
+
+
+def put(world, letter, place):
+    """The edit of a world that puts a letter behind a text of so many letters."""
+    return ("put", letter, place) if world in PLACED else ("put", letter)
+
+
+def puts(world, text):
+    """Edits by which a text comes."""
+    return tuple(put(world, letter, place) for place, letter in enumerate(text))
+
+
+def slow_edit(text, edit):
+    """Do an edit to a text as a list, by the document's words."""
+    if edit[0] == "turn":
+        text[:] = reversed(text) if len(edit) == 1 else [edit[1][letter] for letter in text]
+    elif len(edit) == 3:
+        text.insert(edit[2], edit[1]) if edit[0] == "put" else text.pop(edit[2])
+    elif edit[0] in ("put", "front"):
+        text.insert(len(text) if edit[0] == "put" else 0, edit[1])
+    else:
+        text.pop(-1 if edit[0] == "chop" else 0)
+
+
+def done_edits(world, letters, text):
+    """All edits that can be done to a text, by the document's words."""
+    every = range(letters)
+    found = [put(world, letter, len(text)) for letter in every]
+    if world in ("ends", "deque"):
+        found += [("front", letter) for letter in every]
+    if world in ("stack", "deque"):
+        found += [("chop", letter) for letter in text[-1:]]
+    if world == "deque":
+        found += [("behead", letter) for letter in text[:1]]
+    if world in PLACED:
+        found += [("put", letter, place) for letter in every for place in range(len(text))]
+    if world == "inout":
+        found += [("take", letter, place) for place, letter in enumerate(text)]
+    if world == "relabel":
+        found += [("turn", row) for row in itertools.permutations(every)]
+    if world == "reverse":
+        found.append(("turn",))
+    return found
+
+
+def any_edits(chance, world, letters, many):
+    """Edits at random, at most so many, and the text behind them, which no more than 60 letters make."""
+    text, edits = [], ()
+    while len(edits) < many:
+        every = done_edits(world, letters, text)
+        if len(text) == 60:
+            every = [edit for edit in every if edit[0] not in ("put", "front")]
+        if not every:
+            break
+        edits += (chance.choice(every),)
+        slow_edit(text, edits[-1])
+    return edits, tuple(text)
+
+
+def message_of(edit):
+    """The message of an edit: itself without its place."""
+    return edit[:2]
+
+
+def slow_messages(world, letters):
+    """All messages of a world: those of edits that can be done to a text with each letter at each end."""
+    found = set()
+    for text in itertools.product(range(letters), repeat=2):
+        found |= {message_of(edit) for edit in done_edits(world, letters, list(text))}
+    return sorted(found)
+
+
+def slow_keep(world, letters, keeper, row):
+    """What a keeper answers at first and behind each message, looked up one by one."""
+    every = slow_messages(world, letters)
+    states = [0]
+    for message in row:
+        states.append(keeper[0][states[-1]][every.index(message)])
+    return tuple(keeper[1][state] for state in states)
+
+
+def any_keeper(chance, world, letters, many, answers=2):
+    """A keeper at random."""
+    width = len(slow_messages(world, letters))
+    steps = tuple(tuple(chance.randrange(many) for _ in range(width)) for _ in range(many))
+    return steps, tuple(chance.randrange(answers) for _ in range(many))
+
+
+def commutes(small):
+    """Whether in a least question a then b leads from each state where b then a does."""
+    return all(
+        walked(small, pair, state) == walked(small, pair[::-1], state)
+        for state in range(len(small[1])) for pair in itertools.product(range(small[0]), repeat=2)
+    )
+
+
+def parts(small):
+    """Whether in a least question each letter leads unlike states to unlike states."""
+    return all(
+        small[1][one][letter] != small[1][other][letter]
+        for letter in range(small[0]) for one, other in itertools.combinations(range(len(small[1])), 2)
+    )
+
+
+def slow_can_keep(world, question):
+    """Whether some keeper is right, by the condition of each world."""
+    small = small_of(question)
+    if world in ("stack", "deque"):
+        return parts(small)
+    if world == "in":
+        return commutes(small)
+    if world == "inout":
+        return commutes(small) and parts(small)
+    return True
+
+
+def group(moduli, weights, told):
+    """The question of a sum of letter weights, modulo by modulo, its answers by the sum."""
+    every = list(itertools.product(*[range(modulus) for modulus in moduli]))
+
+    def behind(total, weight):
+        return tuple((part + more) % modulus for part, more, modulus in zip(total, weight, moduli))
+
+    steps = tuple(tuple(every.index(behind(total, weight)) for weight in weights) for total in every)
+    return len(weights), steps, tuple(told(total) for total in every)
+
+
+def shown(question, places):
+    """The same question with its states in other places, state 0 in its own."""
+    letters, steps, told = question
+    order = sorted(range(len(steps)), key=lambda state: places[state])
+    return (
+        letters,
+        tuple(tuple(places[after] for after in steps[state]) for state in order),
+        tuple(told[state] for state in order),
+    )

@@ -95,7 +95,40 @@ class TestLanguage(unittest.TestCase):
             if isinstance(node, ast.FunctionDef) and node.name.startswith("__"):
                 self.assertIn(node.name, SLOTS, name)
 
+    def test_own_names(self):
+        for name, (_, tree) in self.files.items():
+            imported = {alias.name for node in tree.body if isinstance(node, ast.ImportFrom) for alias in node.names}
+            classes = {node.name for node in tree.body if isinstance(node, ast.ClassDef)}
+            functions = [node.name for node in tree.body if isinstance(node, ast.FunctionDef)]
+            values = [target.id for node in tree.body if isinstance(node, ast.Assign) for target in node.targets]
+            bound = [*imported, *classes, *functions, *values]
+            self.assertEqual(len(bound), len(set(bound)), name)
+            read = {node.id for node in ast.walk(tree) if isinstance(node, ast.Name) and isinstance(node.ctx, ast.Load)}
+            self.assertLessEqual(imported, read, name)
+            for part in [part for part in tree.body if isinstance(part, (ast.FunctionDef, ast.ClassDef))]:
+                for node in ast.walk(part):
+                    if isinstance(node, ast.arg):
+                        self.assertNotIn(node.arg, imported | classes, (name, node.lineno))
+                    if isinstance(node, ast.Name) and isinstance(node.ctx, ast.Store):
+                        self.assertNotIn(node.id, imported | classes, (name, node.lineno))
+
+    def test_imports_of_each_other(self):
+        ways = {}
+        for name, (_, tree) in self.files.items():
+            rows = [node.module for node in tree.body if isinstance(node, ast.ImportFrom)]
+            ways[name] = {row.removeprefix("toldwhat.") + ".py" for row in rows if row.startswith("toldwhat.")}
+        done = set()
+        while len(done) < len(ways):
+            free = {name for name in ways if ways[name] <= done} - done
+            self.assertTrue(free, set(ways) - done)
+            done |= free
+
     def test_values(self):
+        # A set is not kept here, only measured or sorted where it is written.
+        measured = {
+            id(part) for _, node in self.nodes if isinstance(node, ast.Call) and isinstance(node.func, ast.Name)
+            and node.func.id in ("len", "sorted") for part in node.args
+        }
         for name, node in self.nodes:
             if isinstance(node, ast.Compare):
                 for sign, right in zip(node.ops, node.comparators):
@@ -105,7 +138,9 @@ class TestLanguage(unittest.TestCase):
                 self.assertNotIsInstance(node.value, (float, complex), (name, node.lineno))
                 if isinstance(node.value, str):
                     self.assertNotIn("%", node.value, (name, node.lineno))
-            barred = (ast.Div, ast.Global, ast.AsyncFunctionDef, ast.Await, ast.MatMult, ast.Import)
+            if isinstance(node, (ast.Set, ast.SetComp)):
+                self.assertIn(id(node), measured, (name, node.lineno))
+            barred = (ast.Div, ast.GeneratorExp, ast.Global, ast.AsyncFunctionDef, ast.Await, ast.MatMult, ast.Import)
             self.assertNotIsInstance(node, barred, name)
 
 

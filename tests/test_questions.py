@@ -4,8 +4,9 @@ import random
 import unittest
 
 from helpers import (
-    DEEP, DEEP_LIST, EVEN, LAST, NEVER, NOT_LETTERS, ONLY, SOME, THREE, all_questions, any_question, any_questions,
-    error_of, ring, short_texts, slow_answer, slow_least, slow_map, slow_maps, walked,
+    DEEP, DEEP_LIST, EVEN, LAST, NEVER, NOT_ANSWERS, NOT_LETTERS, NOT_QUESTIONS, NOT_STEPS, ONLY, SOME, THREE,
+    all_questions, any_question, any_questions, error_of, ring, short_texts, slow_answer, slow_least, slow_map, slow_maps,
+    walked,
 )
 from toldwhat import questions
 from toldwhat.questions import answer, are_alike, least, map_of, maps, parting_text, state_of
@@ -17,21 +18,6 @@ OF_TWO = (are_alike, parting_text)
 # Just 2000 unlike maps, and just 2001.
 MAPS_2000 = (2, ((1, 2), (3, 4), (0, 0), (5, 6), (4, 6), (0, 6), (0, 1)), (0, 0, 1, 1, 1, 1, 1))
 MAPS_2001 = (2, ((1, 2), (3, 4), (5, 0), (6, 4), (6, 5), (6, 1), (2, 7), (5, 5)), (0, 1, 0, 0, 0, 0, 1, 1))
-
-NOT_QUESTIONS = NEVER + ((), (2,), EVEN[:2], EVEN + (0,), (EVEN,), DEEP)
-
-NOT_STEPS = NEVER + (
-    (), ((1, 0),) * 41, ((2, 0), (0, 1)), ((1, 0), (0, 2)), ((1, 0), (0, -1)), ((1, 0), (0, 10 ** 5000)),
-    ((1, 0), (0,)), ((1, 0), (0, 1, 0)), ((1, 0), ()), ((1, 0), [0, 1]), [(1, 0), (0, 1)], ((1, 0), "01"),
-    ((1, 0), (0, True)), ((False, 0), (0, 1)), ((1, 0), (0, None)), ((1, 0), (0, "1")), ((1, 0), (0, (1,))),
-    ((1, 0), None), ((1, 0), 0), ((1, 0), {0: 0, 1: 1}), (1, 0), DEEP, ((1, 0), DEEP), ((1, 0), (0, DEEP)),
-    ((1, 0), (0, DEEP_LIST)), {(1, 0): (0, 1)},
-)
-
-NOT_ANSWERS = NEVER + (
-    (), (1,), (1, 0, 0), (1, 4), (4, 1), (1, -1), (1, 10 ** 5000), (1, -10 ** 5000), (True, 0), (1, False), (1, None),
-    (1, "0"), "10", [1, 0], {1: 0, 0: 1}, ((1,), (0,)), (1, (0,)), DEEP, (DEEP, 1), (1, DEEP_LIST),
-)
 
 NOT_TEXTS = NEVER + (
     (0,) * 61, (0,) * 1000, (2,), (0, 2), (0, 1, -1), (10 ** 5000,), (True,), (0, False), (None,), ("0",), ("a",), "01",

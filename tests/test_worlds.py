@@ -3,12 +3,13 @@ import itertools
 import random
 import unittest
 
-from helpers import DEEP, DEEP_LIST, NEVER, NOT_LETTERS, NOT_WORLDS, WORLDS, error_of
+from helpers import (
+    DEEP, DEEP_LIST, NEVER, NOT_LETTERS, NOT_WORLDS, PLACED, WORLDS, done_edits, error_of, put, puts, slow_edit,
+)
 from toldwhat import worlds
 from toldwhat.worlds import messages, text_after, told
 
 CALLS = (text_after, told)
-PLACED = ("in", "inout")
 PUTTING = ("end", "ends", "stack", "deque", "relabel", "reverse")
 
 # Behind the text (0, 1) of two letters: an edit, the worlds in which it is one, the text, the message.
@@ -59,49 +60,6 @@ NOT_EDITS = (
     None, True, False, 0, 1, -1, 10 ** 5000, "", "put", "put a", [], [("put", 0)], {}, {"put": 0}, {("put", 0): 0},
     DEEP_LIST,
 )
-
-
-def put(world, letter, place):
-    """The edit of a world that puts a letter behind a text of so many letters."""
-    return ("put", letter, place) if world in PLACED else ("put", letter)
-
-
-def puts(world, text):
-    """Edits by which a text comes."""
-    return tuple(put(world, letter, place) for place, letter in enumerate(text))
-
-
-def slow_edit(text, edit):
-    """Do an edit to a text as a list, by the document's words."""
-    if edit[0] == "turn":
-        text[:] = reversed(text) if len(edit) == 1 else [edit[1][letter] for letter in text]
-    elif len(edit) == 3:
-        text.insert(edit[2], edit[1]) if edit[0] == "put" else text.pop(edit[2])
-    elif edit[0] in ("put", "front"):
-        text.insert(len(text) if edit[0] == "put" else 0, edit[1])
-    else:
-        text.pop(-1 if edit[0] == "chop" else 0)
-
-
-def done_edits(world, letters, text):
-    """All edits that can be done to a text, by the document's words."""
-    every = range(letters)
-    found = [put(world, letter, len(text)) for letter in every]
-    if world in ("ends", "deque"):
-        found += [("front", letter) for letter in every]
-    if world in ("stack", "deque"):
-        found += [("chop", letter) for letter in text[-1:]]
-    if world == "deque":
-        found += [("behead", letter) for letter in text[:1]]
-    if world in PLACED:
-        found += [("put", letter, place) for letter in every for place in range(len(text))]
-    if world == "inout":
-        found += [("take", letter, place) for place, letter in enumerate(text)]
-    if world == "relabel":
-        found += [("turn", row) for row in itertools.permutations(every)]
-    if world == "reverse":
-        found.append(("turn",))
-    return found
 
 
 class TestInterface(unittest.TestCase):

@@ -47,9 +47,12 @@ def check_question(question):
         raise BadQuestion("answers")
 
 
+def is_text(value, letters):
+    """Whether a value is a tuple of any number of letters."""
+    return isinstance(value, tuple) and are_numbers(value, len(value), letters - 1)
+
+
 def check_text(text, letters):
     """Raise BadText for a value that is no text of so many letters, or too long a one."""
-    if not isinstance(text, tuple) or len(text) > MOST_TEXT:
+    if not is_text(text, letters) or len(text) > MOST_TEXT:
         raise BadText("not a tuple of at most 60 letters")
-    if not are_numbers(text, len(text), letters - 1):
-        raise BadText("a letter that is none")

@@ -35,22 +35,7 @@ def are_alike(one, other):
 def parting_text(one, other):
     """The least of the shortest texts that two questions answer unlike, None without one."""
     check_alike(one, other)
-    # Pairs come by length and then by letters, so the first that parts has the text asked for.
-    pairs = [(0, 0)]
-    texts = {(0, 0): ()}
-    done = 0
-    while done < len(pairs):
-        first, second = pairs[done]
-        text = texts[(first, second)]
-        if one[2][first] != other[2][second]:
-            return text
-        for letter in range(one[0]):
-            pair = (one[1][first][letter], other[1][second][letter])
-            if pair not in texts:
-                texts[pair] = text + (letter,)
-                pairs.append(pair)
-        done += 1
-    return None
+    return parting_of(one, other)
 
 
 def maps(question):
@@ -94,6 +79,34 @@ def state_from(steps, state, text):
     for letter in text:
         state = steps[state][letter]
     return state
+
+
+def parting_of(one, other):
+    """The least of the shortest texts that two questions of as many letters answer unlike, None without one."""
+    # Pairs come by length and then by letters, so the first that parts has the text asked for.
+    pairs = [(0, 0)]
+    came = {(0, 0): None}
+    done = 0
+    while done < len(pairs):
+        first, second = pairs[done]
+        if one[2][first] != other[2][second]:
+            return text_back(came, pairs[done])
+        for letter in range(one[0]):
+            reached = (one[1][first][letter], other[1][second][letter])
+            if reached not in came:
+                came[reached] = (pairs[done], letter)
+                pairs.append(reached)
+        done += 1
+    return None
+
+
+def text_back(came, place):
+    """The letters that lead to a place, where each place knows the one ahead of it and the letter between."""
+    text = []
+    while came[place] is not None:
+        place, letter = came[place]
+        text.append(letter)
+    return tuple(text[::-1])
 
 
 def least_of(question):

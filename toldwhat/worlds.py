@@ -103,6 +103,11 @@ def text_behind(world, letters, text, edit):
     """The text behind an edit, None for a value that is no edit that can be done there."""
     if not is_edit(world, letters, edit):
         return None
+    return text_by(text, edit)
+
+
+def text_by(text, edit):
+    """The text behind an edit of the world, None where it cannot be done."""
     if edit[0] == "turn":
         return turned_text(text, edit)
     place = place_of(text, edit)
