@@ -354,3 +354,276 @@ def shown(question, places):
         tuple(tuple(places[after] for after in steps[state]) for state in order),
         tuple(told[state] for state in order),
     )
+
+
+FURTHER = ("move", "cut", "flip", "turned")
+
+NOT_FURTHER = tuple(value for value in NOT_WORLDS if value not in FURTHER) + WORLDS + ("Move", "moved", " cut", "turn")
+WRONG_FURTHER = tuple((value, bad("BadWorld")) for value in NOT_FURTHER)
+
+WRONG_STRINGS = tuple(
+    (value, bad("BadString")) for value in NEVER + ((), ("put a",), DEEP) if not isinstance(value, str)
+)
+
+
+def slow_further_edit(text, edit):
+    """Do an edit of a further world to a text as a list, by the document's words."""
+    if edit[0] == "put":
+        text.append(edit[1])
+    elif edit[0] == "move":
+        text.insert(edit[3], text.pop(edit[2]))
+    elif edit[0] == "cut":
+        for _ in range(edit[1]):
+            text.append(text.pop(0))
+    elif edit[0] == "flip":
+        start, end = edit[1], edit[2] - 1
+        while start < end:
+            text[start], text[end] = text[end], text[start]
+            start, end = start + 1, end - 1
+    else:
+        text[edit[3]] = edit[2]
+
+
+def done_further_edits(world, letters, text):
+    """All edits of a further world that can be done to a text, by the document's words."""
+    many = len(text)
+    found = [("put", letter) for letter in range(letters)]
+    if world == "move":
+        found += [("move", letter, i, j) for i, letter in enumerate(text) for j in range(many)]
+    if world == "cut":
+        found += [("cut", i) for i in range(many + 1)]
+    if world == "flip":
+        found += [("flip", i, j) for j in range(many + 1) for i in range(j + 1)]
+    if world == "turned":
+        found += [("change", a, b, i) for i, a in enumerate(text) for b in range(letters) if b != a]
+    return found
+
+
+def further_message_of(edit):
+    """The message of an edit of a further world."""
+    return edit[:{"put": 2, "move": 2, "cut": 1, "flip": 1, "change": 3}[edit[0]]]
+
+
+def slow_further_messages(world, letters):
+    """All messages of a further world: those of edits that can be done to texts of two letters."""
+    found = set()
+    for text in itertools.product(range(letters), repeat=2):
+        found |= {further_message_of(edit) for edit in done_further_edits(world, letters, text)}
+    return sorted(found)
+
+
+def any_further_edits(chance, world, letters, many, longest=60):
+    """Just so many edits of a further world at random, and the text behind them."""
+    text, edits = [], ()
+    while len(edits) < many:
+        every = done_further_edits(world, letters, text)
+        puts_alone = every[:letters]
+        others = every[letters:]
+        if len(text) == longest or others and chance.randrange(2):
+            # With one letter nothing can be changed in "turned".
+            if not others:
+                break
+            edits += (chance.choice(others),)
+        else:
+            edits += (chance.choice(puts_alone),)
+        slow_further_edit(text, edits[-1])
+    return edits, tuple(text)
+
+
+def slow_states(keeper, every, row):
+    """The states of a keeper at first and behind each message, looked up one by one."""
+    states = [0]
+    for message in row:
+        states.append(keeper[0][states[-1]][every.index(message)])
+    return states
+
+
+def slow_lasting(small):
+    """The states of a least question to which texts of as many letters as it has states, or more, lead."""
+    many = len(small[1])
+    # What longer texts lead to, shorter ones do: all of it comes by a length of twice as many.
+    states, found = {0}, set()
+    for length in range(2 * many + 1):
+        if length >= many:
+            found |= states
+        states = {small[1][state][letter] for state in states for letter in range(small[0])}
+    return found
+
+
+def slow_can_keep_further(world, question):
+    """Whether some keeper of a further world is right, by the document's condition."""
+    small = small_of(question)
+    if not commutes(small):
+        return False
+    return world != "turned" or all(
+        small[1][one][letter] != small[1][other][letter]
+        for letter in range(small[0]) for one, other in itertools.combinations(slow_lasting(small), 2)
+    )
+
+
+def any_commuting(chance, letters, many):
+    """A question at random whose letters commute: counts, each up to a bound and then round, and their answers."""
+    shapes = []
+    while len(shapes) < letters:
+        shapes.append((chance.randint(0, 3), chance.randint(1, 3)))
+        if len(shapes) == letters:
+            total = 1
+            for tail, turn in shapes:
+                total *= tail + turn
+            if total > many:
+                shapes = []
+    every = list(itertools.product(*[range(tail + turn) for tail, turn in shapes]))
+
+    def behind(counts, letter):
+        tail, turn = shapes[letter]
+        more = counts[letter] + 1
+        return counts[:letter] + (more if more < tail + turn else tail,) + counts[letter + 1:]
+
+    steps = tuple(tuple(every.index(behind(counts, letter)) for letter in range(letters)) for counts in every)
+    return letters, steps, tuple(chance.randrange(2) for _ in every)
+
+
+def any_tailed(chance, letters, short, moduli):
+    """A question at random that asks for counts of texts of fewer letters than short, else for a sum of weights."""
+    counts = [row for row in itertools.product(range(short), repeat=letters) if sum(row) < short]
+    weights = [tuple(chance.randrange(modulus) for modulus in moduli) for _ in range(letters)]
+    totals = list(itertools.product(*[range(modulus) for modulus in moduli]))
+    every = [("counts", row) for row in counts] + [("sum", total) for total in totals]
+
+    def weighed(row):
+        return tuple(
+            sum(many * weight[at] for many, weight in zip(row, weights)) % modulus for at, modulus in enumerate(moduli)
+        )
+
+    def behind(state, letter):
+        kind, row = state
+        if kind == "sum":
+            return "sum", tuple((part + more) % modulus for part, more, modulus in zip(row, weights[letter], moduli))
+        more = row[:letter] + (row[letter] + 1,) + row[letter + 1:]
+        return ("counts", more) if sum(more) < short else ("sum", weighed(more))
+
+    steps = tuple(tuple(every.index(behind(state, letter)) for letter in range(letters)) for state in every)
+    return letters, steps, tuple(chance.randrange(2) for _ in every)
+
+
+def any_further_keeper(chance, world, letters, many, answers=2):
+    """A keeper of a further world at random."""
+    width = len(slow_further_messages(world, letters))
+    steps = tuple(tuple(chance.randrange(many) for _ in range(width)) for _ in range(many))
+    return steps, tuple(chance.randrange(answers) for _ in range(many))
+
+
+def any_text(chance, letters, many):
+    """A text of so many letters at random."""
+    return tuple(chance.randrange(letters) for _ in range(many))
+
+
+VOID = ("void",)
+
+# Values that are no ask over two letters.
+NOT_ASKS = NEVER + (
+    (), ("begins",), ("begins", ()), ("begins", (2,)), ("begins", (-1,)), ("begins", (0,) * 7), ("begins", 0),
+    ("begins", [0]), ("begins", "a"), ("begins", (True,)), ("begins", (0, False)), ("begins", (None,)), ("begins", ("0",)),
+    ("begins", (0,), 0), ("begins", None), ("begins", DEEP), ("begins", (DEEP,)), ("begins", {0: 0}), ("Begins", (0,)),
+    ("ends",), ("ends", ()), ("ends", (2,)), ("ends", (0,) * 7), ("ends", 0), ("ends", (0,), (1,)), ("end", (0,)),
+    ("holds",), ("holds", ()), ("holds", (0, 2)), ("holds", (0,) * 7), ("holds", (10 ** 5000,)), ("holds", True),
+    ("repeats",), ("repeats", ()), ("repeats", (0, 3)), ("repeats", (0,) * 7), ("repeats", (0,), 2),
+    ("least",), ("least", 1), ("least", 0, 0), ("least", 7, 0), ("least", -1, 0), ("least", 1, 2), ("least", 1, -1),
+    ("least", True, 0), ("least", 1, False), ("least", None, 0), ("least", 1, None), ("least", "1", 0), ("least", 1, "a"),
+    ("least", 10 ** 5000, 0), ("least", 1, 10 ** 5000), ("least", 1, 0, 0), ("least", (1,), 0), ("least", 1, (0,)),
+    ("least", DEEP, 0), ("least", 1, DEEP_LIST),
+    ("sum",), ("sum", (0, 1), 2), ("sum", (0, 1), 2, 2), ("sum", (0, 1), 2, -1), ("sum", (0, 2), 2, 0),
+    ("sum", (-1, 0), 2, 0), ("sum", (0,), 2, 0), ("sum", (0, 1, 1), 2, 0), ("sum", (0, 0), 1, 0), ("sum", (0, 0), 9, 0),
+    ("sum", (0, 0), 0, 0), ("sum", (0, 8), 9, 0), ("sum", [0, 1], 2, 0), ("sum", (0, True), 2, 0), ("sum", (0, 1), 2, True),
+    ("sum", (0, 1), True, 0), ("sum", (0, 1), None, 0), ("sum", None, 2, 0), ("sum", (0, 1), 2, None), ("sum", 0, 2, 0),
+    ("sum", (0, 1), 2, 0, 0), ("sum", (0, 1), "2", 0), ("sum", (0, 10 ** 5000), 2, 0), ("sum", (0, 1), 10 ** 5000, 0),
+    ("sum", (0, 1), 2, 10 ** 5000), ("sum", DEEP, 2, 0), ("sum", (0, DEEP), 2, 0), ("sum", (0, 1), DEEP, 0),
+    ("sum", ((0, 1), 2, 0)), ("void", 0), ("void", VOID), ("void", ()), ("Void",), ["void"], [VOID], "void", (VOID,),
+    ("not",), ("not", VOID, VOID), ("not", None), ("not", "void"), ("not", ["void"]), ("not", ()), ("not", ("not",)),
+    ("not", DEEP), ("not", DEEP_LIST), ("not", ("begins", ())), ("not", True),
+    ("and",), ("and", VOID), ("and", VOID, VOID, VOID), ("and", VOID, None), ("and", None, VOID), ("and", DEEP, VOID),
+    ("and", VOID, ("least", 0, 0)), ("and", (VOID, VOID)), ("and", VOID, [VOID]), ("and", "void", "void"),
+    ("or",), ("or", VOID), ("or", VOID, VOID, VOID), ("or", VOID, ("ends", (2,))), ("or", {}, VOID), ("or", VOID, DEEP_LIST),
+    ("xor", VOID, VOID), ("nor", VOID), (None,), (0,), (True,), ((),), ([],), ({},), (DEEP,), (DEEP_LIST, VOID), DEEP,
+    {"void": 0}, {0: "void"}, ("void", None), (VOID, VOID), (10 ** 5000,),
+)
+WRONG_ASKS = tuple((value, bad("BadAsk")) for value in NOT_ASKS)
+
+
+def any_plain(chance, letters):
+    """A plain ask at random."""
+    word = chance.choice(("begins", "ends", "holds", "repeats", "least", "sum", "void"))
+    if word == "void":
+        return VOID
+    if word == "least":
+        return "least", chance.randint(1, 6), chance.randrange(letters)
+    if word == "sum":
+        modulus = chance.randint(2, 8)
+        return "sum", tuple(chance.randrange(modulus) for _ in range(letters)), modulus, chance.randrange(modulus)
+    return word, any_text(chance, letters, chance.randint(1, 6))
+
+
+def any_ask(chance, letters, depth):
+    """An ask at random, at most so many within one another."""
+    word = chance.choice(("plain", "not", "and", "or"))
+    if depth == 1 or word == "plain":
+        return any_plain(chance, letters)
+    if word == "not":
+        return "not", any_ask(chance, letters, depth - 1)
+    return word, any_ask(chance, letters, depth - 1), any_ask(chance, letters, depth - 1)
+
+
+def depth_of(ask):
+    """How many asks are within one another, the outermost counted."""
+    return 1 + max([0] + [depth_of(part) for part in ask[1:]]) if ask[0] in ("not", "and", "or") else 1
+
+
+def plains_in(ask):
+    """How many plain asks stand in an ask."""
+    return sum(plains_in(part) for part in ask[1:]) if ask[0] in ("not", "and", "or") else 1
+
+
+def nots(many, ask):
+    """An ask within so many nots."""
+    for _ in range(many):
+        ask = ("not", ask)
+    return ask
+
+
+def joined(word, plains):
+    """All of these asks joined by a word, two by two."""
+    if len(plains) == 1:
+        return plains[0]
+    half = (len(plains) + 1) // 2
+    return word, joined(word, plains[:half]), joined(word, plains[half:])
+
+
+def plain_asks(letters):
+    """Plain asks of all kinds, many of each."""
+    every = range(letters)
+    words = [word for word in short_texts(letters, 3) if word] + [(0,) * 6, tuple(at % letters for at in range(6))]
+    for word in words:
+        for kind in ("begins", "ends", "holds", "repeats"):
+            yield kind, word
+    yield from (("least", many, letter) for many in range(1, 7) for letter in every)
+    for modulus in range(2, 9):
+        for rest in {0, 1, modulus - 1}:
+            yield "sum", tuple((letter + 1) % modulus for letter in every), modulus, rest
+            yield "sum", (modulus - 1,) * letters, modulus, rest
+            yield "sum", (0,) * letters, modulus, rest
+    yield VOID
+
+
+def is_text(value, letters):
+    """Whether a value is a text, by kinds and numbers alone."""
+    return type(value) is tuple and all(type(letter) is int and 0 <= letter < letters for letter in value)
+
+
+def changed(value, chance, letters):
+    """A reason with one part changed."""
+    at = chance.randrange(1, 5)
+    part = value[at]
+    if type(part) is int:
+        return value[:at] + (chance.randrange(letters),) + value[at + 1:]
+    texts = [part + (chance.randrange(letters),), part[1:], part[:-1], tuple(chance.randrange(letters) for _ in part)]
+    return value[:at] + (chance.choice(texts),) + value[at + 1:]

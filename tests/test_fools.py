@@ -5,9 +5,9 @@ import unittest
 
 from helpers import (
     DEEP, DEEP_LIST, EVEN, KEPT, LAST, NEVER, ONLY, SOME, THREE, WORLDS, WRONG_KEEPERS, WRONG_QUESTIONS, WRONG_WORLDS,
-    all_questions, any_edits, any_keeper, any_question, any_questions, bad, check_arguments, done_edits, error_of, group,
-    message_of, puts, ring, short_texts, slow_answer, slow_can_keep, slow_edit, slow_keep, slow_messages,
-    small_of, walked,
+    all_questions, any_edits, any_keeper, any_question, any_questions, bad, changed, check_arguments, done_edits,
+    error_of, group, is_text, message_of, puts, ring, short_texts, slow_answer, slow_can_keep, slow_edit, slow_keep,
+    slow_messages, small_of, walked,
 )
 from toldwhat import fools
 from toldwhat.errors import TooMany
@@ -31,10 +31,6 @@ NOTHING = NEVER[1:] + (
     [("put", 0, 0)], (["put", 0],), (["put", 0, 0],), (("put",),), (("put", 2),), (("put", 0, 1),), (("put", True),),
     (("put", True, 0),), (("put", 0, False),), (("put", DEEP),), (("put", 0, DEEP),), {("put", 0): 0}, ("put", 0),
 )
-
-
-def is_text(value, letters):
-    return type(value) is tuple and all(type(letter) is int and 0 <= letter < letters for letter in value)
 
 
 def slow_shows(world, question, value):
@@ -154,16 +150,6 @@ def counter(many, world="stack"):
         down, up = max(state - 1, 0), min(state + 1, many)
         steps.append((down, state, up, state) if world == "stack" else (up, state, down, state))
     return tuple(steps), (0,) + (1,) * many
-
-
-def changed(value, chance, letters):
-    """A reason with one part changed."""
-    at = chance.randrange(1, 5)
-    part = value[at]
-    if type(part) is int:
-        return value[:at] + (chance.randrange(letters),) + value[at + 1:]
-    texts = [part + (chance.randrange(letters),), part[1:], part[:-1], tuple(chance.randrange(letters) for _ in part)]
-    return value[:at] + (chance.choice(texts),) + value[at + 1:]
 
 
 class TestInterface(unittest.TestCase):

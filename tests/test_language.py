@@ -22,6 +22,11 @@ CALLED = {
     "property", "ValueError", "KeyError", "StopIteration", "NotImplemented",
 }
 SLOTS = {"__init__", "__eq__", "__repr__", "__str__", "__len__", "__enter__", "__exit__", "__call__", "__iter__"}
+METHODS = set(
+    "append clear copy count endswith extend find get index insert isalnum isalpha isdigit islower isspace isupper items"
+    " join keys ljust lower lstrip partition pop remove replace reverse rfind rjust rpartition rsplit rstrip setdefault"
+    " split splitlines startswith strip update upper values zfill bit_length".split()
+)
 BARRED = {"register", "mro", "elements", "open", "input", "law", "version_info", "with_traceback", "add_note"}
 
 
@@ -122,6 +127,35 @@ class TestLanguage(unittest.TestCase):
             free = {name for name in ways if ways[name] <= done} - done
             self.assertTrue(free, set(ways) - done)
             done |= free
+
+    def test_decorators(self):
+        for name, node in self.nodes:
+            if isinstance(node, ast.ClassDef):
+                self.assertEqual(node.decorator_list, [], name)
+            if isinstance(node, ast.FunctionDef):
+                words = [word.id for word in node.decorator_list if isinstance(word, ast.Name)]
+                self.assertEqual(len(words), len(node.decorator_list), (name, node.name))
+                self.assertLessEqual(set(words), {"property"}, (name, node.name))
+
+    def test_methods_that_are_called(self):
+        classes = [node for _, node in self.nodes if isinstance(node, ast.ClassDef)]
+        own = {part.name for node in classes for part in node.body if isinstance(part, ast.FunctionDef)}
+        for name, node in self.nodes:
+            if isinstance(node, ast.Call) and isinstance(node.func, ast.Attribute):
+                self.assertIn(node.func.attr, METHODS | own, (name, node.lineno))
+                if node.func.attr in METHODS:
+                    self.assertEqual(node.keywords, [], (name, node.lineno))
+
+    def test_classes(self):
+        for name, node in self.nodes:
+            if isinstance(node, ast.ClassDef):
+                methods = {part.name for part in node.body if isinstance(part, ast.FunctionDef)}
+                stored = {
+                    part.attr for part in ast.walk(node)
+                    if isinstance(part, ast.Attribute) and isinstance(part.ctx, ast.Store)
+                }
+                self.assertEqual(methods & stored, set(), (name, node.name))
+                self.assertEqual(methods & METHODS, set(), (name, node.name))
 
     def test_values(self):
         # A set is not kept here, only measured or sorted where it is written.

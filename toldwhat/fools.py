@@ -103,22 +103,23 @@ def check_told(world, question, keeper):
 
 def is_fooled(world, question, keeper, value):
     """Whether a value is edits at whose end a keeper answers wrong."""
-    letters, steps, answers = question
+    letters = question[0]
     try:
         row = told(world, letters, value)
     except BadEdits:
         return False
-    state = state_from(steps, 0, text_after(world, letters, value))
-    return kept_answers(world, letters, keeper, row)[-1] != answers[state]
+    return ends_wrong(question, text_after(world, letters, value), keeper, messages(world, letters), row)
+
+
+def ends_wrong(question, text, keeper, every, row):
+    """Whether a keeper answers wrong for a text behind a row of messages, which are some of every."""
+    state = state_from(question[1], 0, text)
+    return kept_answers(every, keeper, row)[-1] != question[2][state]
 
 
 def fooling_rows(world, small, keeper):
     """Rows of edits, some of them too long perhaps, of which one or more fool a keeper."""
-    letters = small[0]
-    row = messages(world, letters)
-    places = [row.index(("put", letter)) for letter in range(letters)]
-    # A keeper who is told letters that are put behind the last one is a question, too.
-    alone = (letters, tuple([tuple([states[place] for place in places]) for states in keeper[0]]), keeper[1])
+    alone = puts_alone(small[0], keeper, messages(world, small[0]))
     rows = []
     text = parting_of(small, alone)
     if text is not None:
@@ -128,6 +129,12 @@ def fooling_rows(world, small, keeper):
     if world in TAKING:
         rows.extend([edits_at_end(world, told_row) for told_row in merge_rows(world, small, alone)])
     return rows
+
+
+def puts_alone(letters, keeper, every):
+    """What a keeper answers who is told of letters that are put behind the last one: it is a question, too."""
+    places = [every.index(("put", letter)) for letter in range(letters)]
+    return letters, tuple([tuple([row[place] for place in places]) for row in keeper[0]]), keeper[1]
 
 
 def order_rows(world, small):

@@ -27,13 +27,7 @@ def keeper(world, question):
     """The right keeper with the fewest states."""
     check_world(world)
     check_question(question)
-    small = least_of(question)
-    if not is_kept(world, small):
-        raise NoKeeper("no keeper is right")
-    moves = [move_of(world, small, message) for message in messages(world, small[0])]
-    # No two memories are one: what is still to come can bring unlike answers.
-    steps, memories = numbered(first_memory(world, small), moves, MOST_MEMORIES)
-    return steps, tuple([small[2][memory[0]] for memory in memories])
+    return right_keeper(world, question)
 
 
 def keep(world, letters, keeper, row):
@@ -42,7 +36,18 @@ def keep(world, letters, keeper, row):
     check_letters(letters)
     check_keeper(world, letters, keeper)
     check_row(world, letters, row)
-    return kept_answers(world, letters, keeper, row)
+    return kept_answers(messages(world, letters), keeper, row)
+
+
+def right_keeper(world, question):
+    """The right keeper with the fewest states, of values that are known to be a world and a question."""
+    small = least_of(question)
+    if not is_kept(world, small):
+        raise NoKeeper("no keeper is right")
+    moves = [move_of(world, small, message) for message in messages(world, small[0])]
+    # No two memories are one: what is still to come can bring unlike answers.
+    steps, memories = numbered(first_memory(world, small), moves, MOST_MEMORIES)
+    return steps, tuple([small[2][memory[0]] for memory in memories])
 
 
 def is_kept(world, small):
@@ -70,6 +75,11 @@ def is_parting(small):
 
 def check_keeper(world, letters, value):
     """Raise BadKeeper for a value that is no keeper of a world for so many letters."""
+    check_states(value, len(messages(world, letters)))
+
+
+def check_states(value, many):
+    """Raise BadKeeper for a value that is no keeper who is told so many messages."""
     if not isinstance(value, tuple) or len(value) != 2:
         raise BadKeeper(None)
     steps, answers = value
@@ -77,7 +87,6 @@ def check_keeper(world, letters, value):
         raise BadKeeper(None)
     if not isinstance(answers, tuple) or len(answers) != len(steps):
         raise BadKeeper(None)
-    many = len(messages(world, letters))
     for state, row in enumerate(steps):
         if not are_numbers(row, many, len(steps) - 1) or not is_number(answers[state], 0, MOST_ANSWER):
             raise BadKeeper(state)
@@ -85,16 +94,21 @@ def check_keeper(world, letters, value):
 
 def check_row(world, letters, row):
     """Raise BadMessages for a value that is no row of messages of a world."""
+    check_messages(row, lambda message: is_message(world, letters, message))
+
+
+def check_messages(row, is_told):
+    """Raise BadMessages for a value that is no row of messages, where is_told knows them."""
     if not isinstance(row, tuple) or len(row) > MOST_MESSAGES:
         raise BadMessages(None)
     for index, message in enumerate(row):
-        if not is_message(world, letters, message):
+        if not is_told(message):
             raise BadMessages(index)
 
 
-def kept_answers(world, letters, keeper, row):
-    """What a keeper answers at first and behind each of any number of messages."""
-    numbers = {message: number for number, message in enumerate(messages(world, letters))}
+def kept_answers(every, keeper, row):
+    """What a keeper of a world with these messages answers at first and behind each of any number of them."""
+    numbers = {message: number for number, message in enumerate(every)}
     steps, answers = keeper
     state = 0
     found = [answers[0]]

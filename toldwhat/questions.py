@@ -109,10 +109,10 @@ def text_back(came, place):
     return tuple(text[::-1])
 
 
-def least_of(question):
-    """The least question of a value that is known to be a question."""
+def least_of(question, most=None):
+    """The least question of one, or TooMany if it has more states than most, where texts lead to all states."""
     letters, steps, answers = question
-    groups = groups_of(question)
+    groups = groups_of(question, most)
     # One state stands for all of its group: the first that is come to.
     chosen = [0]
     numbers = {groups[0]: 0}
@@ -129,13 +129,16 @@ def least_of(question):
     return letters, tuple(rows), tuple([answers[state] for state in chosen])
 
 
-def groups_of(question):
+def groups_of(question, most=None):
     """For each state the number of its group: states of one group answer alike behind every text."""
     groups = list(question[2])
     many = 0
     # A round that makes no more groups than there were will make none later either.
     while len(set(groups)) > many:
         many = len(set(groups))
+        # What is parted stays parted: there will be no fewer groups.
+        if most is not None and many > most:
+            raise TooMany(most)
         groups = parted_groups(question[1], groups)
     return groups
 

@@ -70,18 +70,32 @@ def are_parts(letters, texts, alone):
 
 def first_texts(small):
     """For each state of a least question the least of the shortest texts that lead there."""
-    letters, steps, _ = small
+    return long_texts(small, 0)
+
+
+def long_texts(small, least_many):
+    """For each state to which a text of so many letters or more leads a shortest one of these."""
     found = {0: ()}
-    states = [0]
+    for _ in range(least_many):
+        found = texts_longer(small, found)
+    states = list(found)
     done = 0
     while done < len(states):
-        state = states[done]
-        for letter in range(letters):
-            reached = steps[state][letter]
+        longer = texts_longer(small, {states[done]: found[states[done]]})
+        for reached in longer:
             if reached not in found:
-                found[reached] = found[state] + (letter,)
+                found[reached] = longer[reached]
                 states.append(reached)
         done += 1
+    return found
+
+
+def texts_longer(small, texts):
+    """For each state to which one letter more leads a text, from those that states have."""
+    found = {}
+    for state in texts:
+        for letter, reached in enumerate(small[1][state]):
+            found.setdefault(reached, texts[state] + (letter,))
     return found
 
 

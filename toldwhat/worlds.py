@@ -27,22 +27,14 @@ def text_after(world, letters, edits):
     """The text behind edits that begin with the void text."""
     check_world(world)
     check_letters(letters)
-    if not isinstance(edits, tuple) or len(edits) > MOST_EDITS:
-        raise BadEdits(None)
-    text = ()
-    for index, edit in enumerate(edits):
-        text = text_behind(world, letters, text, edit)
-        if text is None:
-            raise BadEdits(index)
-    return text
+    return texts_along(world, letters, edits)[-1]
 
 
 def told(world, letters, edits):
     """The tuple of the messages of edits."""
     # Only to raise the error of edits that are wrong.
     text_after(world, letters, edits)
-    # A place is always the third part of an edit.
-    return tuple([edit[:2] for edit in edits])
+    return tuple([message_of(edit) for edit in edits])
 
 
 def messages(world, letters):
@@ -60,6 +52,30 @@ def check_world(world):
     # A value that is no string may be one that cannot be looked up.
     if not isinstance(world, str) or world not in WORDS:
         raise BadWorld("not a world")
+
+
+def texts_along(world, letters, edits):
+    """The void text, and the text behind each of the edits."""
+    return texts_by(edits, lambda text, edit: text_behind(world, letters, text, edit))
+
+
+def texts_by(edits, behind):
+    """The void text, and the text behind each of the edits, where behind tells what one does to a text, or None."""
+    if not isinstance(edits, tuple) or len(edits) > MOST_EDITS:
+        raise BadEdits(None)
+    texts = [()]
+    for index, edit in enumerate(edits):
+        text = behind(texts[-1], edit)
+        if text is None:
+            raise BadEdits(index)
+        texts.append(text)
+    return texts
+
+
+def message_of(edit):
+    """The message of an edit: itself without its place."""
+    # A place is always the third part of an edit.
+    return edit[:2]
 
 
 def messages_with(world, letters, word):
